@@ -1,0 +1,1 @@
+"""Wakingacts: acts whose provisions wake and change one another."""
