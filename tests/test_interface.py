@@ -1,0 +1,102 @@
+"""The names and arguments of the interface, each in the file under which it is listed."""
+
+import ast
+import pathlib
+import unittest
+
+PACKAGE = pathlib.Path(__file__).resolve().parent.parent / "wakingacts"
+
+FUNCTIONS = {
+    "tokens": {"is_word": "thing", "is_name": "thing", "is_number": "thing", "is_address": "thing",
+               "is_follower": "thing", "is_token": "thing", "is_place": "thing", "above": "address",
+               "is_beneath": "place top"},
+    "reading": {"is_condition": "thing"},
+    "changes": {"carried_out": "book body"},
+    "machine": {"met": "book condition", "has_power": "book who place", "is_letter": "thing", "due": "book",
+                "settled": "book", "sent": "book letter", "passed": "book"},
+    "acttext": {"write_acts": "acts", "read_acts": "lines"},
+    "notetext": {"write_note": "note", "read_note": "lines"},
+    "journal": {"write_journal": "file", "read_journal": "lines", "taken_up": "lines"},
+    "booktext": {"write_book": "book", "read_book": "lines"},
+    "moves": {"moved_places": "book body", "revivable": "book"},
+    "draftpairs": {"judge_pairs": "first second table", "either_order": "first second", "idle_rows": "draft"},
+}
+CLASSES = {
+    "reading": {"Reading": {"__init__": "text", "sleeps": "", "changes": "", "__len__": "", "__iter__": "",
+                            "__eq__": "other"}},
+    "books": {"Book": {"__init__": "acts today events struck made deeds", "acts": "", "names": "", "shown": "",
+                       "seen": "", "__getitem__": "at", "__contains__": "x", "__len__": "", "__iter__": "",
+                       "__eq__": "other", "live": "place", "body_at": "address", "copy": ""}},
+    "files": {"File": {"__init__": "notes", "enter": "notes", "__getitem__": "at", "__len__": "", "__iter__": "",
+                       "__eq__": "other", "__contains__": "x", "now": "", "calendar": "", "upto": "moment",
+                       "copy": "", "__add__": "other"}},
+    "shifts": {"Shift": {"__init__": "steps", "__len__": "", "__iter__": "", "__eq__": "other", "named": "",
+                         "__call__": "outline", "__add__": "other", "origins": "lot"},
+               "ShiftPair": {"__init__": "first second", "__bool__": "", "__len__": "", "__iter__": ""}},
+    "fewest": {"Fewest": {"__init__": "first second", "__len__": ""}},
+    "drafts": {"Draft": {"__init__": "rows", "__len__": "", "__iter__": "", "__eq__": "other", "named": "",
+                         "beginning": "", "__call__": "line", "read_token": "standing token", "__add__": "other",
+                         "but": "number"}},
+    "draftpairs": {"DraftPair": {"__init__": "first second", "__bool__": "", "__len__": "", "__iter__": ""}},
+}
+PROPERTIES = ("sleeps", "changes", "acts", "names", "shown", "seen", "now", "calendar", "named", "beginning")
+
+
+def parameters(function):
+    told = function.args
+    rest = [told.vararg] if told.vararg else []
+    return [one.arg for one in told.args + rest + told.kwonlyargs]
+
+
+def defined(module):
+    return ast.parse((PACKAGE / f"{module}.py").read_text(encoding="utf-8")).body
+
+
+class InterfaceTests(unittest.TestCase):
+
+    def test_functions(self):
+        for module, functions in FUNCTIONS.items():
+            found = {node.name: parameters(node) for node in defined(module) if isinstance(node, ast.FunctionDef)}
+            for name, expected in functions.items():
+                self.assertEqual(expected.split(), found.get(name), f"{module}.{name}")
+
+    def test_classes_and_their_own_methods(self):
+        for module, classes in CLASSES.items():
+            found = {node.name: node for node in defined(module) if isinstance(node, ast.ClassDef)}
+            for name, methods in classes.items():
+                own = {node.name: node for node in found[name].body if isinstance(node, ast.FunctionDef)}
+                for method, expected in methods.items():
+                    self.assertEqual(["self", *expected.split()], parameters(own[method]), f"{name}.{method}")
+                    is_property = [one.id for one in own[method].decorator_list] == ["property"]
+                    self.assertIs(method in PROPERTIES, is_property, f"{name}.{method}")
+
+    def test_the_package_folder_holds_only_plain_files(self):
+        for path in PACKAGE.iterdir():
+            if path.name != "__pycache__":
+                self.assertRegex(path.name, r"^[a-z_]+\.py$")
+
+    def test_sizes_and_characters(self):
+        for path in PACKAGE.glob("*.py"):
+            text = path.read_text(encoding="ascii")
+            lines = text.split("\n")
+            self.assertLess(len(lines), 400, path.name)
+            self.assertLessEqual(max(map(len, lines)), 120, path.name)
+            self.assertTrue(all(" " <= sign <= "~" or sign == "\n" for sign in text), path.name)
+            for node in ast.walk(ast.parse(text)):
+                if isinstance(node, ast.FunctionDef):
+                    self.assertLessEqual(node.end_lineno - node.lineno + 1, 40, f"{path.name}: {node.name}")
+
+    def test_imports_name_the_very_file_that_defines(self):
+        for path in PACKAGE.glob("*.py"):
+            for node in ast.walk(ast.parse(path.read_text(encoding="utf-8"))):
+                self.assertNotIsInstance(node, ast.Import)
+                if isinstance(node, ast.ImportFrom):
+                    package, module = node.module.split(".")
+                    self.assertEqual("wakingacts", package)
+                    names = [one.name for one in defined(module) if isinstance(one, (ast.FunctionDef, ast.ClassDef))]
+                    for alias in node.names:
+                        self.assertIn(alias.name, names, path.name)
+
+
+if __name__ == "__main__":
+    unittest.main()
