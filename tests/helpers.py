@@ -30,3 +30,13 @@ def raised(test, error, call, *args, **more):
         call(*args, **more)
     test.assertIs(error, caught.exception.__class__)
     return caught.exception
+
+
+def letter(serial, day, *parts):
+    """The note of a letter with this serial, sent on this day."""
+    return "letter", serial, day, parts
+
+
+def made(serial, day, who, text):
+    """The note of a letter that makes the acts that these lines tell."""
+    return letter(serial, day, "acts", who, acts(text))

@@ -141,6 +141,7 @@ class ReviveTests(ChangeCase):
         after = self.done("revive pipes", of=struck)
         self.assertEqual(("hoses", "pipes"), after.names)
         self.assertEqual((), after.struck)
+        self.assertEqual(["hoses/1", "hoses/2", "pipes/1", "pipes/1/2", "pipes/1/2/3", "pipes/2", "pipes/3"], list(after))
         self.assertEqual(texts(self.book)["pipes/2"], texts(after)["pipes/2"])
         self.assertEqual("see lost and pipes/1 and ~hoses/1", texts(after)["hoses/1"])
         self.assertEqual((("fill", "hoses/1"),), after.deeds)

@@ -34,17 +34,22 @@ def do_strike(book, body):
     return after, "done", happenings
 
 
+def last_bundle(book, place):
+    """The number of the last bundle with this place, or None."""
+    numbers = [number for number, bundle in enumerate(book.struck) if bundle[0] == place]
+    return numbers[-1] if numbers else None
+
+
 def do_revive(book, body):
     """What comes of `revive P`."""
     place = place_of(body[1])
-    numbers = [number for number, bundle in enumerate(book.struck) if bundle[0] == place]
-    if not numbers:
+    last = last_bundle(book, place)
+    if last is None:
         return idle(book, "nothing")
     if place in book:
         return idle(book, "taken")
     if not is_name(place) and parent_of(place) not in book:
         return idle(book, "parent")
-    last = numbers[-1]
     names = book.names + (place,) if is_name(place) else book.names
     rows = [(place_at(place, labels), text) for labels, text in book.struck[last][1]]
     added = {address: Reading(text) for address, text in rows if not is_name(address)}
@@ -111,67 +116,58 @@ def do_split(book, body):
     return done(with_provisions(shortened, book.names, {other: Reading(text[size:])}))
 
 
-def replaced(text, token, new, first, last):
-    """The text with those of its tokens like this one replaced whose number, from 1, is from first to last."""
+def spliced(row, places, new):
+    """The row with the things at these places replaced by the new ones, anew at each place."""
     kept = []
-    met = 0
-    for one in text:
-        if one == token:
-            met += 1
-        if one == token and first <= met <= last:
-            kept.extend(new)
-        else:
-            kept.append(one)
+    for at, thing in enumerate(row):
+        kept.extend(new if at in places else (thing,))
     return tuple(kept)
 
 
-def with_words(book, texts):
-    """What comes of a change of words that makes these texts by their addresses, or is too long."""
-    if any([len(text) > 24 for text in texts.values()]):
-        return idle(book, "long")
-    readings = {place: reading for place, reading in book.readings.items()}
-    for address, text in texts.items():
-        readings[address] = Reading(text)
-    return done(changed(book, readings=readings))
+def words_named(body):
+    """What a body of the kind `words` or `word` names: a place, the token that is replaced, and the new ones."""
+    named = body[1:] if body[0] == "words" else body[2:]
+    return place_of(named[0]), named[1], named[2:]
 
 
-def texts_beneath(book, place, token):
-    """The texts at or beneath the place in which the token is, by their addresses, in order."""
-    readings = book.readings
-    return {address: readings[address].text for address in book
-            if is_beneath(address, place) and token in readings[address].text}
+def places_beneath(book, place, token):
+    """Where the token is in the texts at or beneath the place: its places in them by their addresses, in order."""
+    found = {}
+    for address, reading in book.readings.items():
+        if is_beneath(address, place) and token in reading.text:
+            found[address] = [at for at, one in enumerate(reading.text) if one == token]
+    return found
 
 
-def times_in(text, token):
-    """How often the token is in the text."""
-    return len([one for one in text if one == token])
+def replaced_places(book, body):
+    """Where a body of the kind `words` or `word` replaces tokens: their places in texts by the addresses, in order."""
+    place, token, _ = words_named(body)
+    found = places_beneath(book, place, token)
+    if body[0] == "words":
+        return found
+    left_over = int(body[1])
+    for address, places in found.items():
+        if left_over <= len(places):
+            return {address: [places[left_over - 1]]}
+        left_over -= len(places)
+    return {}
 
 
 def do_words(book, body):
-    """What comes of `words P T T*`."""
-    place = place_of(body[1])
-    token = body[2]
+    """What comes of `words P T T*` and `word L P T T*`."""
+    place, _, new = words_named(body)
     if place not in book:
         return idle(book, "nothing")
-    texts = texts_beneath(book, place, token)
-    if not texts:
+    places = replaced_places(book, body)
+    if not places:
         return idle(book, "lacks")
-    return with_words(book, {at: replaced(text, token, body[3:], 1, len(text)) for at, text in texts.items()})
-
-
-def do_word(book, body):
-    """What comes of `word L P T T*`."""
-    place = place_of(body[2])
-    token = body[3]
-    if place not in book:
-        return idle(book, "nothing")
-    left_over = int(body[1])
-    for address, text in texts_beneath(book, place, token).items():
-        times = times_in(text, token)
-        if left_over <= times:
-            return with_words(book, {address: replaced(text, token, body[4:], left_over, left_over)})
-        left_over -= times
-    return idle(book, "lacks")
+    texts = {address: spliced(book.readings[address].text, places[address], new) for address in places}
+    if any([len(text) > 24 for text in texts.values()]):
+        return idle(book, "long")
+    readings = {address: reading for address, reading in book.readings.items()}
+    for address, text in texts.items():
+        readings[address] = Reading(text)
+    return done(changed(book, readings=readings))
 
 
 def do_put(book, body):
@@ -221,7 +217,7 @@ def do_end(book, body):
 
 CHANGES = {
     "strike": do_strike, "revive": do_revive, "number": do_number, "move": do_move,
-    "split": do_split, "words": do_words, "word": do_word, "put": do_put,
+    "split": do_split, "words": do_words, "word": do_words, "put": do_put,
     "wake": do_wake, "end": do_end,
 }
 

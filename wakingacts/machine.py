@@ -178,7 +178,12 @@ def sent(book, letter):
     return after, "counts" if word is None else word, happenings
 
 
+def aged(book):
+    """The book when a day has passed, ahead of coming to rest."""
+    events = tuple([(name, min(age + 1, 100)) for name, age in book.events])
+    return changed(book, today=min(book.today + 1, 100), events=events)
+
+
 def passed(book):
     """The book at rest behind a day that passes, and the happenings."""
-    events = tuple([(name, min(age + 1, 100)) for name, age in book.events])
-    return settled(changed(book, today=min(book.today + 1, 100), events=events))
+    return settled(aged(book))
