@@ -20,6 +20,19 @@ FUNCTIONS = {
     "booktext": {"write_book": "book", "read_book": "lines"},
     "moves": {"moved_places": "book body", "revivable": "book"},
     "draftpairs": {"judge_pairs": "first second table", "either_order": "first second", "idle_rows": "draft"},
+    "leaving": {"least_left": "draft token"},
+    "tails": {"judge_tails": "draft table"},
+    "days": {"ahead": "book days", "wakes_in": "book"},
+    "measure": {"measure": "book"},
+    "waits": {"waits": "book", "knots": "book", "stuck": "book"},
+    "forces": {"letters_in_force": "file moment", "in_force": "file day moment", "history": "file day moment"},
+    "offices": {"parted": "first second"},
+    "trials": {"tried": "file notes day", "tried_apart": "file lots day", "tried_within": "file lots day"},
+    "hangs": {"hangs": "file address day moment most", "grounds": "file address day moment"},
+    "powers": {"powers": "book", "power_at": "book who place"},
+    "chains": {"chain": "file serial moment", "judge_chain": "file chain moment",
+               "falls_with": "file serial day moment"},
+    "wordmaps": {"references": "body", "said": "body word_map"},
 }
 CLASSES = {
     "reading": {"Reading": {"__init__": "text", "sleeps": "", "changes": "", "__len__": "", "__iter__": "",
@@ -38,8 +51,19 @@ CLASSES = {
                          "beginning": "", "__call__": "line", "read_token": "standing token", "__add__": "other",
                          "but": "number"}},
     "draftpairs": {"DraftPair": {"__init__": "first second", "__bool__": "", "__len__": "", "__iter__": ""}},
+    "tails": {"Tails": {"__init__": "draft", "__bool__": "", "__len__": "", "__iter__": ""}},
+    "orders": {"Orders": {"__init__": "book letters", "__bool__": ""}},
+    "losses": {"Loss": {"__init__": "file serial day moment", "__bool__": "", "__len__": ""}},
+    "trials": {"Trial": {"__init__": "file", "__enter__": "", "__exit__": "kind value trace"}},
+    "traces": {"Traced": {"__init__": "file day moment", "descents_of": "address", "path_of": "address",
+                          "letters_of": "address", "written": "serial"}},
+    "rolls": {"Roll": {"__init__": "file day moment", "__len__": "", "__iter__": "", "__getitem__": "at",
+                       "__contains__": "x", "standing": "", "stood": "name day"}},
+    "wordmaps": {"WordMap": {"__init__": "pairs", "__len__": "", "__iter__": "", "__eq__": "other",
+                             "__contains__": "x", "__call__": "word", "then": "second"}},
 }
-PROPERTIES = ("sleeps", "changes", "acts", "names", "shown", "seen", "now", "calendar", "named", "beginning")
+PROPERTIES = ("sleeps", "changes", "acts", "names", "shown", "seen", "now", "calendar", "named", "beginning",
+              "standing")
 
 
 def parameters(function):
@@ -69,6 +93,18 @@ class InterfaceTests(unittest.TestCase):
                     self.assertEqual(["self", *expected.split()], parameters(own[method]), f"{name}.{method}")
                     is_property = [one.id for one in own[method].decorator_list] == ["property"]
                     self.assertIs(method in PROPERTIES, is_property, f"{name}.{method}")
+
+    def test_keywords_and_defaults(self):
+        made = next(node for node in defined("hangs") if getattr(node, "name", "") == "hangs").args
+        self.assertEqual(["most"], [one.arg for one in made.kwonlyargs])
+        of = next(node for node in ast.walk(ast.Module(defined("wordmaps"), [])) if getattr(node, "name", "") == "of")
+        self.assertEqual((["classmethod"], ["cls", "pairs"]), ([one.id for one in of.decorator_list], parameters(of)))
+        for module, names in (("forces", "letters_in_force in_force history"), ("hangs", "hangs grounds"),
+                              ("chains", "chain judge_chain falls_with")):
+            for node in defined(module):
+                if isinstance(node, ast.FunctionDef) and node.name in names.split():
+                    self.assertEqual([None], [one.value for one in node.args.defaults], node.name)
+                    self.assertEqual("moment", node.args.args[-1].arg)
 
     def test_the_package_folder_holds_only_plain_files(self):
         for path in PACKAGE.iterdir():

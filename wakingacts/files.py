@@ -46,53 +46,53 @@ def fresh_notes(notes, others):
 
 
 class File:
-    """A file. Its notes are only ever added to, by `enter`."""
+    """A file. Its notes are only ever added to, by `enter`, but for trials, behind which it has its elder ones."""
 
     def __init__(self, notes=()):
         row = row_of(notes)
         if row is None:
             raise BadNote(-1)
-        self._notes = entered((), row)
+        self.notes = entered((), row)
 
     def enter(self, *notes):
         """Enter these notes, or none of them if one is refused; the new moment."""
-        self._notes = entered(self._notes, notes)
-        return len(self._notes)
+        self.notes = entered(self.notes, notes)
+        return len(self.notes)
 
     def upto(self, moment):
         """The file with just the notes ahead of this moment."""
-        if not is_integer(moment, 0, len(self._notes)):
+        if not is_integer(moment, 0, len(self.notes)):
             raise NoMoment(moment)
-        return File(self._notes[:moment])
+        return File(self.notes[:moment])
 
     def copy(self):
         """A file with the same notes."""
-        return File(self._notes)
+        return File(self.notes)
 
     @property
     def now(self):
         """The moment: the number of the notes."""
-        return len(self._notes)
+        return len(self.notes)
 
     @property
     def calendar(self):
         """The present day."""
-        return days_of(self._notes)
+        return days_of(self.notes)
 
     def __getitem__(self, at):
-        return self._notes[at]
+        return self.notes[at]
 
     def __contains__(self, x):
-        return is_integer(x, 1, 99) and x in serials_of(self._notes)
+        return is_integer(x, 1, 99) and x in serials_of(self.notes)
 
     def __len__(self):
-        return len(self._notes)
+        return len(self.notes)
 
     def __iter__(self):
-        return iter(self._notes)
+        return iter(self.notes)
 
     def __eq__(self, other):
-        return isinstance(other, File) and self._notes == other._notes
+        return isinstance(other, File) and self.notes == other.notes
 
     def __add__(self, other):
-        return File(self._notes + tuple(fresh_notes(self._notes, other._notes)))
+        return File(self.notes + tuple(fresh_notes(self.notes, other.notes)))

@@ -1,0 +1,83 @@
+"""On which letters it hangs what is shown at a place ([31])."""
+
+from wakingacts.books import Book
+from wakingacts.errors import BadMost, TooMany
+from wakingacts.forces import behind_step, check_day, letters_standing, notes_ahead, plan_of, up_to
+from wakingacts.forms import is_integer
+
+
+class Showings:
+    """What is shown at an address on a day, with any lot of the letters left out."""
+
+    def __init__(self, letters, address, day):
+        self.plan = plan_of(letters, day)
+        self.address = address
+        # Many lots begin with the same steps; the books behind these are kept, by the serials of the steps.
+        self.books = {(): Book()}
+
+    def without(self, lot):
+        """The body that is shown, or None, when the letters of the lot are left out."""
+        done = ()
+        for _, serial, letter in self.plan:
+            if serial not in lot:
+                book = self.books[done]
+                done = (*done, serial)
+                if done not in self.books:
+                    self.books[done] = behind_step(book, letter)[0]
+        return self.books[done].body_at(self.address)
+
+
+def lots_of_size(serials, size):
+    """All lots of so many of these serials, which ascend, in order."""
+    lots = [()]
+    for _ in range(size):
+        lots = [(*lot, serial) for lot in lots for serial in serials if not lot or lot[-1] < serial]
+    return lots
+
+
+def is_part(lot, other):
+    """Whether all of the first lot is in the second one."""
+    return all([serial in other for serial in lot])
+
+
+def least_lots(serials, most, is_one):
+    """The lots of at most so many serials for which this function is true, without those that have such a part."""
+    found = []
+    for size in range(most + 1):
+        for lot in lots_of_size(serials, size):
+            if not any([is_part(other, lot) for other in found]) and is_one(lot):
+                found = found + [lot]
+    return tuple(found)
+
+
+def letters_up_to(file, day, moment):
+    """The letters in force at this moment that are of a day up to this one."""
+    return up_to(letters_standing(notes_ahead(file, moment)), day)
+
+
+def hangs(file, address, day, moment=None, *, most=2):
+    """The least lots of at most `most` letters that matter for what is shown at this address."""
+    check_day(day)
+    letters = letters_up_to(file, day, moment)
+    if not is_integer(most, 1, 3):
+        raise BadMost(most)
+    if len(letters) > 12:
+        raise TooMany("letter")
+    showings = Showings(letters, address, day)
+    shown = showings.without(())
+    return least_lots(list(letters), most, lambda lot: showings.without(lot) != shown)
+
+
+def grounds(file, address, day, moment=None):
+    """The least lots of letters that alone show at this address what all letters do."""
+    check_day(day)
+    letters = letters_up_to(file, day, moment)
+    if len(letters) > 8:
+        raise TooMany("letter")
+    showings = Showings(letters, address, day)
+    shown = showings.without(())
+
+    def bears(lot):
+        return showings.without([serial for serial in letters if serial not in lot]) == shown
+
+    return least_lots(list(letters), len(letters), bears)
