@@ -122,6 +122,17 @@ class InterfaceTests(unittest.TestCase):
                 if isinstance(node, ast.FunctionDef):
                     self.assertLessEqual(node.end_lineno - node.lineno + 1, 40, f"{path.name}: {node.name}")
 
+    def test_exits_give_attributes_their_values_alone(self):
+        exits = [node for path in PACKAGE.glob("*.py") for node in ast.walk(ast.parse(path.read_text(encoding="utf-8")))
+                 if isinstance(node, ast.FunctionDef) and node.name == "__exit__"]
+        self.assertEqual(1, len(exits))
+        for row in exits[0].body:
+            self.assertIsInstance(row, ast.Assign)
+            self.assertIsInstance(row.value, ast.Attribute)
+            self.assertEqual([], [node for node in ast.walk(row) if isinstance(node, (ast.Call, ast.Subscript))])
+        locals_named = [row for row in exits[0].body if isinstance(row.targets[0], ast.Name)]
+        self.assertLessEqual(len(locals_named), 1)
+
     def test_imports_name_the_very_file_that_defines(self):
         for path in PACKAGE.glob("*.py"):
             for node in ast.walk(ast.parse(path.read_text(encoding="utf-8"))):

@@ -28,12 +28,8 @@ class Trial:
     def __exit__(self, kind, value, trace):
         file = self.file
         file.notes = self.notes
-        self.step_out()
-
-    def step_out(self):
-        outer = self.outer
-        self.notes = outer.notes
-        self.outer = outer.outer
+        self.notes = self.outer.notes
+        self.outer = self.outer.outer
 
 
 def tried(file, notes, day):
