@@ -33,6 +33,12 @@ FUNCTIONS = {
     "chains": {"chain": "file serial moment", "judge_chain": "file chain moment",
                "falls_with": "file serial day moment"},
     "wordmaps": {"references": "body", "said": "body word_map"},
+    "sayings": {"judge_saying": "book address table"},
+    "outlooks": {"put_down": "book horizon"},
+    "wishes": {"is_test": "thing", "is_wish": "thing", "holds": "book test"},
+    "verdicts": {"judge_wish": "book menu wish table"},
+    "hands": {"judge_values": "outlook who test table"},
+    "alike": {"judge_alike": "first second table"},
 }
 CLASSES = {
     "reading": {"Reading": {"__init__": "text", "sleeps": "", "changes": "", "__len__": "", "__iter__": "",
@@ -61,9 +67,19 @@ CLASSES = {
                        "__contains__": "x", "standing": "", "stood": "name day"}},
     "wordmaps": {"WordMap": {"__init__": "pairs", "__len__": "", "__iter__": "", "__eq__": "other",
                              "__contains__": "x", "__call__": "word", "then": "second"}},
+    "sayings": {"Saying": {"__init__": "book address", "__len__": "", "__iter__": "", "__getitem__": "at",
+                           "ways": "address", "nowhere": "", "ring": ""}},
+    "says": {"SayPair": {"__init__": "book address other other_address", "__bool__": "", "__len__": "", "__iter__": ""}},
+    "outlooks": {"Outlook": {"__init__": "book menu", "__getitem__": "at", "__len__": "", "__iter__": "", "follow": "n",
+                             "after": "future", "way": "n", "idles": "n step", "place_of": "book"}},
+    "verdicts": {"Verdict": {"__init__": "outlook wish", "__bool__": "", "__len__": "", "__iter__": ""}},
+    "fates": {"Fate": {"__init__": "outlook test", "__eq__": "other"}},
+    "hands": {"Hands": {"__init__": "outlook who test", "__bool__": "", "__len__": "", "__iter__": "", "value": "n",
+                        "plan": "n", "answer": "n choice", "trap": "", "play": "choices"}},
+    "alike": {"Alike": {"__init__": "first second", "__bool__": "", "__len__": "", "__iter__": ""}},
 }
 PROPERTIES = ("sleeps", "changes", "acts", "names", "shown", "seen", "now", "calendar", "named", "beginning",
-              "standing")
+              "standing", "nowhere", "ring", "trap")
 
 
 def parameters(function):

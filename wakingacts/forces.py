@@ -3,7 +3,7 @@
 from wakingacts.books import Book
 from wakingacts.errors import NoDay, NoLetter
 from wakingacts.forms import is_integer
-from wakingacts.machine import passed, sent
+from wakingacts.machine import behind_step
 
 # The letters of one day are sent in this order of their kinds.
 KINDS = ("event", "acts", "order", "deed")
@@ -67,14 +67,6 @@ def plan_of(letters, day):
     return [(when, serial, letters[serial][1] if serial else None) for when, _, serial in sorted(begins + sends)]
 
 
-def behind_step(book, letter):
-    """The book behind a letter, or behind a day that passes, with the word for it and the happenings."""
-    if letter is not None:
-        return sent(book, letter)
-    after, happenings = passed(book)
-    return after, "day", happenings
-
-
 def run(letters, day):
     """What is done up to a day with these letters: the books behind each step, and the rows of the history."""
     book = Book()
@@ -92,6 +84,24 @@ def outcome(letters, day):
     books, rows = run(letters, day)
     words = {serial: word for _, serial, word, _ in rows if serial}
     return books[-1] if books else Book(), words
+
+
+class Runs:
+    """Runs from the empty book, of which many begin with the same steps: the books behind these are kept."""
+
+    def __init__(self):
+        # By the serials of the steps; a day that passes has the serial 0.
+        self.books = {(): Book()}
+
+    def end_of(self, plan):
+        """The book to which these steps lead."""
+        done = ()
+        for _, serial, letter in plan:
+            book = self.books[done]
+            done = (*done, serial)
+            if done not in self.books:
+                self.books[done] = behind_step(book, letter)[0]
+        return self.books[done]
 
 
 def letters_in_force(file, moment=None):

@@ -19,6 +19,11 @@ def is_integer(thing, low, high):
     return isinstance(thing, int) and not isinstance(thing, bool) and low <= thing <= high
 
 
+def is_at_least(thing, low):
+    """Whether this is an integer from this bound on; True and False are none."""
+    return isinstance(thing, int) and not isinstance(thing, bool) and thing >= low
+
+
 def is_ascending(row):
     """Whether each thing in the row is below the next one."""
     return all([row[at] < row[at + 1] for at in range(len(row) - 1)])

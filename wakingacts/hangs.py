@@ -1,8 +1,7 @@
 """On which letters it hangs what is shown at a place ([31])."""
 
-from wakingacts.books import Book
 from wakingacts.errors import BadMost, TooMany
-from wakingacts.forces import behind_step, check_day, letters_standing, notes_ahead, plan_of, up_to
+from wakingacts.forces import Runs, check_day, letters_standing, notes_ahead, plan_of, up_to
 from wakingacts.forms import is_integer
 
 
@@ -10,21 +9,14 @@ class Showings:
     """What is shown at an address on a day, with any lot of the letters left out."""
 
     def __init__(self, letters, address, day):
-        self.plan = plan_of(letters, day)
+        self.steps = plan_of(letters, day)
         self.address = address
-        # Many lots begin with the same steps; the books behind these are kept, by the serials of the steps.
-        self.books = {(): Book()}
+        self.runs = Runs()
 
     def without(self, lot):
         """The body that is shown, or None, when the letters of the lot are left out."""
-        done = ()
-        for _, serial, letter in self.plan:
-            if serial not in lot:
-                book = self.books[done]
-                done = (*done, serial)
-                if done not in self.books:
-                    self.books[done] = behind_step(book, letter)[0]
-        return self.books[done].body_at(self.address)
+        book = self.runs.end_of([row for row in self.steps if row[1] not in lot])
+        return book.body_at(self.address)
 
 
 def lots_of_size(serials, size):

@@ -168,14 +168,19 @@ def counted(book, letter):
     return changed(book, deeds=tuple(sorted(book.deeds + ((letter[1], letter[2]),))))
 
 
+def sent_kept(book, letter):
+    """What `sent` tells of a letter that is known to be one, as a tuple throughout."""
+    word = why_idle(book, letter)
+    after, happenings = settled(counted(book, letter) if word is None else book)
+    return after, "counts" if word is None else word, happenings
+
+
 def sent(book, letter):
     """The book at rest behind the letter, `counts` or why it is idle, and the happenings."""
     kept = letter_of(letter)
     if kept is None:
         raise BadLetter(letter)
-    word = why_idle(book, kept)
-    after, happenings = settled(counted(book, kept) if word is None else book)
-    return after, "counts" if word is None else word, happenings
+    return sent_kept(book, kept)
 
 
 def aged(book):
@@ -187,3 +192,11 @@ def aged(book):
 def passed(book):
     """The book at rest behind a day that passes, and the happenings."""
     return settled(aged(book))
+
+
+def behind_step(book, letter):
+    """The book behind a letter, or behind a day that passes if it is None, with the word for it and the happenings."""
+    if letter is not None:
+        return sent_kept(book, letter)
+    after, happenings = passed(book)
+    return after, "day", happenings

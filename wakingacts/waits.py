@@ -1,6 +1,7 @@
 """Which sleeping provisions wait for which, and so never wake ([22])."""
 
 from wakingacts.tokens import above, place_of
+from wakingacts.walks import reached_from
 
 
 def places_waited_for(address, reading):
@@ -24,18 +25,6 @@ def waits_by_address(book):
 def waits(book):
     """The pairs of provisions of which the first waits for the second, in the order of the book."""
     return tuple([(address, other) for address, others in waits_by_address(book).items() for other in others])
-
-
-def reached_from(address, direct):
-    """All that this provision waits for in one or more steps, when this is what each waits for in one."""
-    found = {}
-    open_ones = list(direct[address])
-    while open_ones:
-        other = open_ones.pop()
-        if other not in found:
-            found[other] = True
-            open_ones.extend(direct[other])
-    return found
 
 
 def all_reached(book):
