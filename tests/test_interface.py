@@ -39,6 +39,13 @@ FUNCTIONS = {
     "verdicts": {"judge_wish": "book menu wish table"},
     "hands": {"judge_values": "outlook who test table"},
     "alike": {"judge_alike": "first second table"},
+    "classes": {"classes": "outlook", "parting": "outlook n m"},
+    "needless": {"book_without": "book place", "without_bundle": "book number", "is_needless": "outlook place",
+                 "needless_places": "outlook"},
+    "lean": {"lean": "outlook"},
+    "exchange": {"all_exchanged": "outlook"},
+    "guards": {"judge_keep": "outlook who test lot"},
+    "remedies": {"mended": "book name clauses lot"},
 }
 CLASSES = {
     "reading": {"Reading": {"__init__": "text", "sleeps": "", "changes": "", "__len__": "", "__iter__": "",
@@ -77,9 +84,17 @@ CLASSES = {
     "hands": {"Hands": {"__init__": "outlook who test", "__bool__": "", "__len__": "", "__iter__": "", "value": "n",
                         "plan": "n", "answer": "n choice", "trap": "", "play": "choices"}},
     "alike": {"Alike": {"__init__": "first second", "__bool__": "", "__len__": "", "__iter__": ""}},
+    "consolidate": {"Consolidated": {"__init__": "book menu", "__bool__": ""}},
+    "exchange": {"Exchange": {"__init__": "outlook first second", "__bool__": ""}},
+    "guards": {"Guard": {"__init__": "outlook who test", "__bool__": "", "__len__": "", "__iter__": "", "worth": "n",
+                         "guard": "n", "attack": "n choice", "keep": ""}},
+    "remedies": {"Remedies": {"__init__": "book menu wish name clauses", "__bool__": "", "__len__": "", "__iter__": "",
+                              "__contains__": "x"}},
+    "underway": {"Underway": {"__init__": "file letters day moment", "__getitem__": "at", "__len__": "", "__iter__": "",
+                              "told": "address", "deed": "name", "surely_shown": ""}},
 }
 PROPERTIES = ("sleeps", "changes", "acts", "names", "shown", "seen", "now", "calendar", "named", "beginning",
-              "standing", "nowhere", "ring", "trap")
+              "standing", "nowhere", "ring", "trap", "keep")
 
 
 def parameters(function):

@@ -3,6 +3,7 @@
 from wakingacts.errors import BadMost, TooMany
 from wakingacts.forces import Runs, check_day, letters_standing, notes_ahead, plan_of, up_to
 from wakingacts.forms import is_integer
+from wakingacts.lots import least_lots
 
 
 class Showings:
@@ -17,29 +18,6 @@ class Showings:
         """The body that is shown, or None, when the letters of the lot are left out."""
         book = self.runs.end_of([row for row in self.steps if row[1] not in lot])
         return book.body_at(self.address)
-
-
-def lots_of_size(serials, size):
-    """All lots of so many of these serials, which ascend, in order."""
-    lots = [()]
-    for _ in range(size):
-        lots = [(*lot, serial) for lot in lots for serial in serials if not lot or lot[-1] < serial]
-    return lots
-
-
-def is_part(lot, other):
-    """Whether all of the first lot is in the second one."""
-    return all([serial in other for serial in lot])
-
-
-def least_lots(serials, most, is_one):
-    """The lots of at most so many serials for which this function is true, without those that have such a part."""
-    found = []
-    for size in range(most + 1):
-        for lot in lots_of_size(serials, size):
-            if not any([is_part(other, lot) for other in found]) and is_one(lot):
-                found = found + [lot]
-    return tuple(found)
 
 
 def letters_up_to(file, day, moment):
