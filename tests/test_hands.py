@@ -265,6 +265,13 @@ class JudgeTests(unittest.TestCase):
         for values, number in (((2, 1, 0, 0), None), ((-1, 1, 0, 0), 0), ((-1, -1, 0, 0), 1), ((2, 1, -1, -1), 1), ((1, 1, 0, 0), 0),
                                ((3, 1, 0, 0), 0), ((3, 2, 0, 0), 1), ((2, 0, 0, 0), 0), ((1, 0, 0, 0), 1), ((2, 1, 0, 1), 3)):
             self.assertEqual(number, judge_values(outlook, "crown", test, tuple(enumerate(values))), values)
+        # A choice behind which one morning is of the trap counts for nothing, whatever the others are.
+        outlook = Outlook(book("act a\n1 from day 2 x\n2 from behind 0 flood strike a/1\nend"), (FLOOD,))
+        right = Hands(outlook, "crown", test).table
+        second = outlook.after((0,))
+        self.assertEqual((-1, -1), (dict(right)[0], dict(right)[second]))
+        for hopes, number in (({0: 2, second: 1}, 0), ({second: 1}, [n for n, _ in right].index(second)), ({}, None)):
+            self.assertEqual(number, judge_values(outlook, "crown", test, [(n, hopes.get(n, value)) for n, value in right]))
         # A ring of mornings without the test has no other value than -1.
         for values, number in (((-1, -1), None), ((1, 0), 1), ((2, 1), 1), ((1, 1), 0), ((-1, 0), 0), ((2, 2), 0), ((-1, 1), 0)):
             empty = Outlook(book("act a\n1 x\nend"))

@@ -141,7 +141,7 @@ class RemediesTests(unittest.TestCase):
 
     def test_errors_in_order(self):
         some = book(PIPES)
-        for menu, number in ((None, -1), ((FLOOD, None), 1), ((FLOOD, FLOOD), 1)):
+        for menu, number in ((None, -1), ((FLOOD, None), 1), ((FLOOD, FLOOD), 1), (tuple(("event", name) for name in "abcdefghi"), -1)):
             self.assertEqual(number, raised(self, BadMenu, Remedies, some, menu, None, "pipes", None).number)
         for wish in (None, ("always",), "finds"):
             self.assertIs(wish, raised(self, BadWish, Remedies, some, (), wish, "pipes", None).wish)

@@ -68,6 +68,10 @@ class UnderwayTests(unittest.TestCase):
     def test_surely_shown_is_in_the_order_of_the_first_case(self):
         start = File((made(1, 0, "house", "act b\n9 y\n10 x\nend"), made(2, 0, "house", "act a\n1 z\nend")))
         self.assertEqual((("b/9", ("y",)), ("b/10", ("x",)), ("a/1", ("z",))), Underway(start, (FLOOD,), 0).surely_shown())
+        # In the other case the acts come in another order, as the first one is struck and revived.
+        told = Underway(start, (("acts", "house", acts("act c\n1 strike b\n2 revive b\nend")),), 0)
+        self.assertEqual((("b/9", ("y",)), ("b/10", ("x",)), ("a/1", ("z",))), told.surely_shown())
+        self.assertEqual(("a", "c", "b"), told[(1,)].names)
         # What is only shown with the letter is not sure.
         told = Underway(start, (("acts", "house", acts("act c\n1 x\n2 words b y z\nend")),), 0)
         self.assertEqual((("b/10", ("x",)), ("a/1", ("z",))), told.surely_shown())
@@ -95,8 +99,11 @@ class UnderwayTests(unittest.TestCase):
         self.assertEqual([None, ("y",), ("x",), ("x",)], [told[case].body_at("hoses/1") for case in told])
         told = Underway(file(), (second, first), 0)
         self.assertEqual([None, ("x",), ("y",), ("y",)], [told[case].body_at("hoses/1") for case in told])
-        told = Underway(file(letter(99, 0, *first)), (second,), 0)
-        self.assertEqual(("sure", ("x",)), told.told("hoses/1"))
+        for day in (0, 1):
+            told = Underway(file(letter(99, 0, *first)), (second,), day)
+            self.assertEqual(("sure", ("x",)), told.told("hoses/1"))
+        told = Underway(file(letter(99, 0, *first), letter(98, 0, *FLOOD)), (second, STORM), 2)
+        self.assertEqual({("x",)}, {told[case].body_at("hoses/1") for case in told})
         # The kinds go ahead of the serials: the event comes ahead of the acts, the deed behind the order.
         told = Underway(file(), (("deed", "dig", "pipes/3"), crown), 0)
         self.assertEqual([None, None, None, "pipes/3"], [dict(told[case].deeds).get("dig") for case in told])

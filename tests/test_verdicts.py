@@ -155,6 +155,17 @@ class VerdictTests(unittest.TestCase):
         # Behind what is true nothing is told.
         self.assertFalse(outlook.after((1, 0, 0, 0)) in numbers)
 
+    def test_comes_behind_a_standing_that_is_found_earlier(self):
+        # The order to a/1 leads to one standing, whether a/2 was ordered ahead of it or not; there it takes longest.
+        lines = "act a\n1 from order house\n1/1 wake a/2\n1/2 wake a/4 day 3\n2 from order house x\n4 from day 1 gold\nend"
+        menu = (("order", "house", "a/1"), ("order", "house", "a/2"))
+        verdict = self.check(lines, menu, ("comes", ("live", "a/4")), None)
+        outlook = Outlook(book(lines), menu)
+        numbers = {outlook.place_of(some): number for some, number in verdict}
+        self.assertEqual(outlook.after((1,)), outlook.after((2, 1)))
+        self.assertLess(outlook.after((1,)), outlook.after((2,)))
+        self.assertEqual([3, 3, 3, 2, 0], [numbers[outlook.after(future)] for future in ((), (1,), (2,), (1, 0), (0,))])
+
     def test_the_least_breach_of_comes_leads_through_untrue_standings(self):
         lines = "act a\n1 from behind 0 flood put b/1 x\n2 from behind 0 storm strike b/1\nend\nact b\nend"
         self.check(lines, (FLOOD, STORM), ("comes", ("live", "b/1")), (0,), (0,))
@@ -301,6 +312,19 @@ class JudgeTests(unittest.TestCase):
         table = self.table_of(("always", ("live", "pipes")))
         self.assertEqual(2, self.judge(("always", ("not", FIRE)), table))
         self.assertEqual(0, self.judge(("always", FIRE), table))
+
+    def test_always_with_numbers_that_fall(self):
+        table = self.table_of(("always", ("live", "pipes")))
+        falling = tuple((some, 9 - number) for number, (some, _) in enumerate(table))
+        self.assertEqual(2, self.judge(("always", ("not", FIRE)), falling))
+        self.assertEqual(1, self.judge(("keeps", ("not", FIRE)), falling))
+
+    def test_keeps_with_letters(self):
+        outlook = Outlook(self.book, MENU)
+        for test in (FIRE, ("live", "pipes/1"), ("not", FIRE)):
+            truths = [holds(some, test) for some in outlook]
+            expected = next(n for n in range(len(outlook)) if truths[n] and not all(truths[m] for m in outlook.follow(n)))
+            self.assertEqual(expected, self.judge(("keeps", test), tuple((some, 5) for some in outlook), MENU))
 
     def test_keeps(self):
         table = self.table_of(("always", ("live", "pipes")))

@@ -74,7 +74,7 @@ def judge_keep(outlook, who, test, lot):
     kept = judged_test(test)
     choices = choices_of(outlook, who)
     numbers = row_of(lot) or ()
-    if not all([is_standing(outlook, n) for n in numbers]) or len(set(numbers)) < len(numbers) or 0 not in numbers:
+    if not all([is_standing(outlook, one) for one in numbers]) or len(set(numbers)) < len(numbers) or 0 not in numbers:
         return -1
     for place, n in enumerate(numbers):
         if not is_kept(outlook, choices, kept, numbers, n):

@@ -62,7 +62,7 @@ def least_loop(rows, first):
 
 def first_ring(rows, ways):
     """The first row that can be come to again from itself, and the least paths to it and back to it; or None."""
-    direct = [[behind for _, behind in steps_from(rows, number)] for number in range(len(rows))]
+    direct = [[behind for behind in row[3] if behind != -1] for row in rows]
     for number in range(len(rows)):
         if number in reached_from(number, direct):
             return number, ways[number], least_loop(rows, number)

@@ -8,8 +8,8 @@ def compared_rows(first, second):
     """The parting path of two sayings and None, or None and the pairs of their rows."""
 
     def follow(pair):
-        both = zip(first[pair[0]][3], second[pair[1]][3])
-        return [(reference, behind) for reference, behind in enumerate(list(both)) if behind != (-1, -1)]
+        both = list(zip(first[pair[0]][3], second[pair[1]][3]))
+        return [(reference, behind) for reference, behind in enumerate(both) if behind != (-1, -1)]
 
     def is_unlike(pair):
         return -1 in pair or first[pair[0]][2] != second[pair[1]][2]

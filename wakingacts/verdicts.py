@@ -5,8 +5,11 @@ from wakingacts.forms import is_at_least, pair_of, row_of
 from wakingacts.machine import settled
 from wakingacts.menus import menu_of
 from wakingacts.outlooks import book_behind_step, horizon_of, key_of, put_down
-from wakingacts.walks import first_way, reached_from, rounds, searched
+from wakingacts.walks import first_way, rounds
 from wakingacts.wishes import is_true, judged_wish
+
+# The step with which a day passes.
+DAY = 0
 
 
 def follows_of(outlook):
@@ -79,29 +82,6 @@ def untrue_steps(outlook, truths):
     return steps
 
 
-def on_day_loops(steps):
-    """The standings, each with True, from which a loop of these steps, with a day that passes, leads back to them."""
-    direct = {n: [behind for _, behind in row] for n, row in steps.items()}
-    reached = {n: reached_from(n, direct) for n in steps}
-    mornings = [(n, behind) for n, row in steps.items() for step, behind in row if step == 0]
-    evenings = [n for n, morning in mornings if n == morning or n in reached[morning]]
-    found = {}
-    for n in steps:
-        if any([n == evening or (n in reached[evening] and evening in reached[n]) for evening in evenings]):
-            found[n] = True
-    return found
-
-
-def least_day_loop(steps, n):
-    """The least loop of these steps from a standing to itself with a day that passes."""
-
-    def follow(place):
-        return [(step, (behind, place[1] or step == 0)) for step, behind in steps[place[0]]]
-
-    loop, _ = searched((n, False), follow, lambda place: place == (n, True))
-    return loop
-
-
 def days_to_truth(follows, numbers):
     """The greatest numbers of days that can pass from these standings, where the test is not true, until it is."""
     days = {n: 0 for n in numbers}
@@ -109,7 +89,7 @@ def days_to_truth(follows, numbers):
     while changes:
         changes = False
         for n in numbers[::-1]:
-            most = max([days.get(behind, 0) + (0 if step else 1) for step, behind in enumerate(follows[n])])
+            most = max([days.get(behind, 0) + (1 if step == DAY else 0) for step, behind in enumerate(follows[n])])
             changes = changes or most != days[n]
             days[n] = most
     return days
@@ -128,15 +108,16 @@ def comes_told(outlook, truths):
     if truths[0]:
         return None, None, ((outlook[0], 0),)
     steps = untrue_steps(outlook, truths)
-    loops = on_day_loops(steps)
 
     def follow(n):
         return steps[n]
 
-    breach, numbers = first_way(0, follow, lambda n: n in loops)
+    # What a step changes never comes back: each happening makes the measure smaller, acts are made only once, and ages
+    # and deeds only grow in between. So a standing is on a loop by steps that change nothing alone.
+    breach, numbers = first_way(0, follow, lambda n: (DAY, n) in steps[n])
     if breach is None:
         return None, None, comes_table(outlook, numbers)
-    return breach, least_day_loop(steps, outlook.after(breach)), None
+    return breach, (DAY,), None
 
 
 def judged(outlook, wish):
